@@ -1,0 +1,1 @@
+"""Runs of several hands, and the least that must be kept of them."""
