@@ -50,18 +50,29 @@ def parted(program, stand, run, other):
 
 
 def history(program, stand, run, name):
-    touches = walked(program, stand, run)[1]
+    touches = touches_of(program, stand, run)
     # A clock's and a lot's look have "" as thing: that is nothing's name.
     if all([number_of(program, sort, name) is None for sort in PLACE_OF]):
         return []
-    return [touch for touch in with_events(stand, touches) if touch[1][1] == name]
+    return [touch for touch in touches if touch[1][1] == name]
+
+
+def touches_of(program, stand, run):
+    """The touches of a run as (EVENT, LOOK), in their order."""
+    return with_events(stand, walked(program, stand, run)[1])
 
 
 def with_events(stand, touches):
-    """The touches as (EVENT, LOOK), in their order."""
+    """Touches that stand as (hand, LOOK), as (EVENT, LOOK)."""
+    events = events_by(stand, [hand for hand, look in touches])
+    return list(zip(events, [look for hand, look in touches]))
+
+
+def events_by(stand, hands):
+    """The EVENTs that hands make, one behind the other, from a stand on."""
     counts = list(stand[COUNTS])
-    told = []
-    for hand, look in touches:
-        told.append(((hand, counts[hand]), look))
+    events = []
+    for hand in hands:
+        events.append((hand, counts[hand]))
         counts[hand] += 1
-    return told
+    return events

@@ -2,7 +2,9 @@
 
 import copy
 
-from leastrecord.stands import first_stand
+from leastrecord.errors import LeastError, NoFit, NoRun
+from leastrecord.seats import touch_of
+from leastrecord.stands import can_go, first_stand
 from leastrecord.steps import gone
 
 
@@ -61,6 +63,16 @@ N1 = ("num", 1)
 X = ("of", "x")
 Y = ("of", "y")
 
+GET = ("get", "x", "b")
+PUT = ("put", "b", N1)
+TAKE = ("take", "l")
+FREE = ("free", "l")
+SEND = ("send", "n", N1)
+FETCH = ("fetch", "x", "n")
+SAY = ("say", "d", N1)
+CLOCK = ("clock", "x")
+LOOP = ("leap", 0, N1)
+
 EVERY_ROW = (
     ("let", "x", ("add", X, N1)), ("leap", 0, N0), ("get", "x", "b"), ("put", "b", X), ("take", "l"), ("free", "l"),
     ("send", "n", X), ("fetch", "x", "n"), ("say", "d", X), ("clock", "x"), ("lot", "x", 6), ("hear", "x", "d"),
@@ -106,3 +118,217 @@ def stand_behind(program, *steps):
         hand, gift = step if isinstance(step, tuple) else (step, None)
         stand = gone(program, stand, hand, gift)[0]
     return stand
+
+
+def random_run(chance, program, stand, most):
+    """A run of at most so many steps, each hand that may go being chosen as often."""
+    run = []
+    for turn in range(most):
+        free = can_go(program, stand)
+        if not free:
+            break
+        hand = chance.choice(free)
+        touch = touch_of(program, hand, stand[1][hand])
+        gift = None
+        if touch[0] in ("clock", "hear"):
+            gift = chance.choice([0, 1, 2, chance.randrange(1000)])
+        elif touch[0] == "lot":
+            gift = chance.randrange(touch[2])
+        run.append((hand, gift))
+        stand = gone(program, stand, hand, gift)[0]
+    return tuple(run)
+
+
+def run_of(*steps):
+    """The run of these steps: a hand's number, or (hand, gift)."""
+    return tuple(step if isinstance(step, tuple) else (step, None) for step in steps)
+
+
+def busy_rows(chance, many):
+    """Rows of a hand that works with others at few things; it seldom waits for good."""
+    rows = []
+    while len(rows) < many:
+        tree = chance.choice([N0, N1, X, Y, ("add", X, N1), ("num", 7)])
+        pocket = chance.choice("xy")
+        lock = chance.choice("llm")
+        lane = chance.choice("nno")
+        door = chance.choice("dde")
+        rows.extend(chance.choice([
+            [("get", pocket, "b")], [("put", "b", tree)], [("get", pocket, chance.choice("bc"))], [("put", chance.choice("bc"), tree)],
+            [("take", lock), ("free", lock)], [("take", lock), ("get", pocket, "b"), ("put", "b", tree), ("free", lock)],
+            [("take", lock), ("say", door, tree), ("free", lock), ("take", lock), ("free", lock), ("free", lock)],
+            [("send", lane, tree)], [("send", lane, tree), ("send", "n", tree), ("fetch", pocket, "n")], [("fetch", pocket, lane)],
+            [("send", lane, tree), ("fetch", pocket, lane)], [("say", door, tree)], [("say", door, tree)],
+            [chance.choice([("clock", pocket), ("lot", pocket, 3), ("hear", pocket, "d")])],
+            [chance.choice([("take", lock), ("leap", min(many, len(rows) + 2), X), ("let", pocket, tree)])],
+        ]))
+    return tuple(rows[:many])
+
+
+def busy_scene(chance, most_rows=12, most_steps=60, most_hands=4):
+    """A program, a stand of it (the first one, or one by the way) and a run from there."""
+    hands = min(most_hands, chance.choice([1, 2, 2, 3, 3, 4, 4]))
+    program = program_of(*[busy_rows(chance, chance.randrange(2, most_rows + 1)) for hand in range(hands)])
+    stand = first_stand(program)
+    if chance.random() < 0.6:
+        stand = stand_behind(program, *random_run(chance, program, stand, chance.randrange(8)))
+    return program, stand, random_run(chance, program, stand, most_steps)
+
+
+def events_told(program, stand, run):
+    """The touches of a run as (EVENT, LOOK), made step by step."""
+    told = []
+    for hand, gift in run:
+        event = (hand, stand[0][hand])
+        stand, look = gone(program, stand, hand, gift)
+        told.append((event, look))
+    return told
+
+
+def needs_by_the_words(touches):
+    """The needs of touches, (EVENT, LOOK), row by row as they are told."""
+    pairs = set()
+    for place, (b, (kind, thing, value, mark)) in enumerate(touches):
+        for a, look in touches[:place]:
+            if a[0] == b[0]:
+                continue
+            if look[0] == "put" and kind in ("get", "put") and mark == a:
+                pairs.add((a, b))
+            if look[0] == "get" and kind == "put" and look[1] == thing and look[3] == mark:
+                pairs.add((a, b))
+            if look[0] == "take" and kind == "take" and look[1] == thing:
+                frees = [e for e, other in touches if e > a and e[0] == a[0] and other[:2] == ("free", thing)]
+                if frees and min(frees) == mark:
+                    pairs.add((a, b))
+            if look[0] == kind and kind in ("send", "fetch", "say") and look[1] == thing and mark == look[3] + 1:
+                pairs.add((a, b))
+    return tuple(sorted(pairs))
+
+
+def events_ahead(program, stand, touches, record):
+    """Of each event the set of those ahead of it from the stand on: all sets grow together till none does."""
+    looks = dict(touches)
+    locks = dict(zip(program[1], stand[3]))
+    lanes = dict(zip(program[2], stand[4]))
+    ahead = {event: set() for event in looks}
+
+    def first_free(hand, lock, number):
+        return min(e for e, look in touches if e[0] == hand and e[1] >= number and look[:2] == ("free", lock))
+
+    def owed(event):
+        kind, thing = looks[event][:2]
+        owes = {e for e in looks if e[0] == event[0] and e[1] < event[1]}
+        owes |= {first for first, second in record[2] if second == event}
+        if kind == "fetch":
+            many = lanes[thing][1] + sum(1 for e in ahead[event] if looks[e][:2] == ("fetch", thing))
+            owes |= {e for e, look in touches if look[:2] == ("send", thing) and look[3] <= many}
+        if kind == "take":
+            owes |= {first_free(e[0], thing, e[1]) for e in ahead[event]
+                     if e[0] != event[0] and looks[e][:2] == ("take", thing)}
+            if locks[thing][0] not in (None, event[0]):
+                owes.add(first_free(locks[thing][0], thing, 0))
+        return owes.union(*[ahead[e] for e in owes | ahead[event]])
+
+    grown = True
+    while grown:
+        grown = False
+        for event in looks:
+            more = owed(event) - ahead[event]
+            ahead[event] |= more
+            grown = grown or bool(more)
+    return ahead
+
+
+def search(program, stand, run, record):
+    """All runs that fit a record which the run keeps, tried out: (one that parts or None, the ends of the others)."""
+    looks = dict(events_told(program, stand, run))
+    begin = stand[0]
+    ends, seen, waiting = [], {stand}, [(stand, ())]
+    while waiting:
+        here, made = waiting.pop()
+        moves = 0
+        for hand in can_go(program, here):
+            event = (hand, here[0][hand])
+            if event[1] >= record[0][hand]:
+                continue
+            if any(second == event and first[1] >= here[0][first[0]] for first, second in record[2]):
+                continue
+            gift = None
+            if looks[event][0] in ("clock", "lot", "hear"):
+                used = sum(1 for k in range(begin[hand], event[1]) if looks[(hand, k)][0] in ("clock", "lot", "hear"))
+                gift = record[1][hand][used]
+                if gift is None:
+                    return made + ((hand, 1 if looks[event][2] == 0 else 0),), []
+            moves += 1
+            behind, look = gone(program, here, hand, gift)
+            if look != looks[event]:
+                return made + ((hand, gift),), []
+            if behind not in seen:
+                seen.add(behind)
+                waiting.append((behind, made + ((hand, gift),)))
+        if not moves:
+            ends.append(here)
+    return None, ends
+
+
+def bent(chance, things):
+    """Some of the things, in their order."""
+    share = chance.choice([0.3, 0.6, 0.9])
+    return tuple(thing for thing in things if chance.random() < share)
+
+
+def random_record(chance, program, stand, run, whole):
+    """A record that the run keeps: some edges of the whole one, some others, some gifts without a value."""
+    events = [event for event, look in events_told(program, stand, run)]
+    edges = set(bent(chance, whole[2])) if chance.random() < 0.8 else set(whole[2])
+    for turn in range(chance.choice([0, 0, 1, 3, 8])):
+        if len(events) > 1:
+            first, second = sorted(chance.sample(range(len(events)), 2))
+            if events[first][0] != events[second][0]:
+                edges.add((events[first], events[second]))
+    lost = chance.choice([0, 0, 0.3])
+    gifts = tuple(tuple(None if chance.random() < lost else gift for gift in hand) for hand in whole[1])
+    return (whole[0], gifts, tuple(sorted(edges)))
+
+
+def refused(test, error, fields, ask, *things):
+    """ask(*things) is refused with just this error, whose fields tell this, and changes nothing."""
+    with test.assertRaises(LeastError) as caught:
+        stays(test, ask, *things)
+    test.assertIs(type(caught.exception), error)
+    same_kind(test, tuple(vars(caught.exception).values()), fields)
+
+
+def runs_refused():
+    """Things that are no runs of a program whose hand 0 may go without a gift, with what is told of them."""
+    things = [(thing, (-1, "shape")) for thing in odd_things() if type(thing) is not tuple]
+    things += [([(0, None)], (-1, "shape")), (((0, None),) * 61, (-1, "shape")), ((None,) * 61, (-1, "shape"))]
+    things += [(((0, None), step), (1, "shape")) for step in (None, 0, (0,), (0, None, None), [0, None], {0: None, 1: None}, "ab")]
+    things += [(((0, None), (hand, None)), (1, "hand")) for hand in (9, -1, True, None, "0", [0], (0,), {})]
+    things += [(((0, gift),), (0, "gift")) for gift in (0, False, "", (), [None], {})]
+    return things
+
+
+def refuses_what_does_not_fit(test, ask, has_to_keep):
+    """ask(program, stand, run, record): NoRun goes ahead, then NoFit with the first misfit, then with the end."""
+    program = program_of((("get", "x", "b"), ("leap", 0, N1)), (("clock", "x"), ("leap", 0, N1)))
+    stand = first_stand(program)
+    record = ((2, 2), ((), (7, 8)), (((0, 0), (1, 1)),))
+    for thing, told in runs_refused():
+        refused(test, NoRun, told, ask, program, stand, thing, record)
+        refused(test, NoRun, told, ask, program, stand, thing, ((0, 0), ((), (5,)), ()))
+    refused(test, NoRun, (3, "gift"), ask, program, stand, run_of(0, 0, 0, 1), record)
+    for steps, place, word in (((0, 0, 0), 2, "upto"), ((0, (1, 7), (1, 8), (1, 9)), 3, "upto"), (((1, 8),), 0, "gift"),
+                               ((0, 0, (1, 7), (1, 7), 0), 3, "gift"), (((1, 7), (1, 8), 0, 0), 1, "edge")):
+        refused(test, NoFit, (place, word), ask, program, stand, run_of(*steps), record)
+    refused(test, NoFit, (0, "gift"), ask, program, stand, run_of((1, 7)), ((0, 1), ((), ()), ()))
+    later = stand_behind(program, 0, (1, 7))
+    refused(test, NoFit, (1, "upto"), ask, program, later, run_of(0, 0), ((2, 1), ((), ()), ()))
+    unkept = [((), record), ((0, (1, 7), 0), record), ((0, (1, 7), (1, 8)), record), ((0,), ((1, 0), ((), (None,)), ())),
+              (((1, 7),), ((0, 1), ((), (7, 7)), ()))]
+    for steps, held in unkept:
+        if has_to_keep:
+            refused(test, NoFit, (len(steps), "end"), ask, program, stand, run_of(*steps), held)
+        else:
+            stays(test, ask, program, stand, run_of(*steps), held)
+    stays(test, ask, program, stand, run_of(0, 0, (1, 7), (1, 8)), record)

@@ -1,34 +1,14 @@
 import random
 import unittest
 
-from helper import N0, N1, X, Y, odd_things, program_of, random_program, same_kind, stand_behind, stays
+from helper import N0, N1, X, Y, odd_things, program_of, random_program, random_run, same_kind, stand_behind, stays
 from leastrecord.errors import LeastError, NoRun
 from leastrecord.runs import history, parted, tables_of, walked
-from leastrecord.seats import course, first_seat, goes_so, touch_of
-from leastrecord.stands import can_go, first_stand, is_stuck
-from leastrecord.steps import gone
+from leastrecord.seats import course, first_seat, goes_so
+from leastrecord.stands import first_stand, is_stuck
 from leastrecord.sums import worth
 
 LOOP = program_of((("clock", "x"), ("put", "b", X), ("leap", 0, N1)), (("get", "y", "b"), ("leap", 0, N1)))
-
-
-def random_run(chance, program, stand, most):
-    """A run of at most so many steps, each hand that may go being chosen as often."""
-    run = []
-    for turn in range(most):
-        free = can_go(program, stand)
-        if not free:
-            break
-        hand = chance.choice(free)
-        touch = touch_of(program, hand, stand[1][hand])
-        gift = None
-        if touch[0] in ("clock", "hear"):
-            gift = chance.choice([0, 1, 2, chance.randrange(1000)])
-        elif touch[0] == "lot":
-            gift = chance.randrange(touch[2])
-        run.append((hand, gift))
-        stand = gone(program, stand, hand, gift)[0]
-    return tuple(run)
 
 
 class Model:
