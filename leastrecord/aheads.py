@@ -2,6 +2,7 @@
 
 from leastrecord.fitting import fitted
 from leastrecord.needs import free_from
+from leastrecord.runs import entry_of
 from leastrecord.stands import COUNTS, hands_of, state_of
 
 
@@ -91,5 +92,4 @@ def frees_brought(program, stand, touches, touch, growth):
 
 
 def is_ahead(stand, told, one, other):
-    claim = told[other[0]][other[1] - stand[COUNTS][other[0]]]
-    return one[1] < claim[one[0]]
+    return one[1] < entry_of(stand, told, other)[one[0]]

@@ -76,3 +76,8 @@ def events_by(stand, hands):
         events.append((hand, counts[hand]))
         counts[hand] += 1
     return events
+
+
+def entry_of(stand, table, event):
+    """What a tuple with a tuple for each hand, of an entry for each touch from the stand on, has of an EVENT."""
+    return table[event[0]][event[1] - stand[COUNTS][event[0]]]

@@ -286,7 +286,7 @@ def random_record(chance, program, stand, run, whole):
             first, second = sorted(chance.sample(range(len(events)), 2))
             if events[first][0] != events[second][0]:
                 edges.add((events[first], events[second]))
-    lost = chance.choice([0, 0, 0.3])
+    lost = chance.choice([0, 0, 0.5])
     gifts = tuple(tuple(None if chance.random() < lost else gift for gift in hand) for hand in whole[1])
     return (whole[0], gifts, tuple(sorted(edges)))
 
@@ -332,3 +332,11 @@ def refuses_what_does_not_fit(test, ask, has_to_keep):
         else:
             stays(test, ask, program, stand, run_of(*steps), held)
     stays(test, ask, program, stand, run_of(0, 0, (1, 7), (1, 8)), record)
+
+
+def with_look(stand, paper, event, look):
+    """A paper whose tables have another thing at this event."""
+    order, tables, claims = paper
+    hand, place = event[0], event[1] - stand[0][event[0]]
+    looks = tables[hand][:place] + (look,) + tables[hand][place + 1:]
+    return (order, tables[:hand] + (looks,) + tables[hand + 1:], claims)

@@ -1,8 +1,8 @@
 import random
 import unittest
 
-from helper import (N1, X, busy_scene, events_told, program_of, random_record, refused, run_of, runs_refused, same_kind,
-                    stand_behind, stays)
+from helper import (CLOCK, FETCH, FREE, GET, N1, PUT, SAY, SEND, TAKE, X, busy_scene, events_told, program_of,
+                    random_record, refused, run_of, runs_refused, same_kind, stand_behind, stays)
 from leastrecord.errors import NoRun
 from leastrecord.fitting import keeps, misfit
 from leastrecord.records import whole_record
@@ -95,7 +95,7 @@ class Fitting(unittest.TestCase):
         self.asked(((0, 7), 0), ((2, 0), ((7,), ()), ()), None, True)
 
     def test_what_takes_no_gift_uses_none(self):
-        program = program_of((("get", "x", "b"), ("put", "b", X), ("take", "l"), ("free", "l"), ("send", "n", X), ("fetch", "x", "n"), ("say", "d", X), ("clock", "x")))
+        program = program_of((GET, PUT, TAKE, FREE, SEND, FETCH, SAY, CLOCK))
         stand = first_stand(program)
         self.asked((0,) * 7 + ((0, 3),), ((8,), ((3,),), ()), None, True, program, stand)
         self.asked((0,) * 7, ((7,), ((),), ()), None, True, program, stand)
