@@ -7,20 +7,26 @@ from leastrecord.stands import COUNTS, hands_of, state_of
 
 
 class Growth:
-    """How many touches of each hand are ahead of one event, as far as it is known."""
+    """How many touches of each hand are ahead of one event, as far as it is known; none above its bound."""
 
-    def __init__(self, counts, claims):
+    def __init__(self, counts, bounds, claims):
         self.numbers = list(counts)
+        self.bounds = bounds
         self.claims = claims
 
     def has(self, event):
         return event[1] < self.numbers[event[0]]
 
+    def reach(self, hand, number):
+        """At least that number, as far as the bound lets."""
+        self.numbers[hand] = max(self.numbers[hand], min(self.bounds[hand], number))
+
     def take_in(self, event):
-        """With the event comes all that is ahead of it; its own hand's lesser numbers are in its claim."""
-        claim = self.claims[event]
-        self.numbers = [max(number, other) for number, other in zip(self.numbers, claim)]
-        self.numbers[event[0]] = max(self.numbers[event[0]], event[1] + 1)
+        """The event, and what by its claim is ahead of it."""
+        self.reach(event[0], event[1] + 1)
+        if self.has(event):
+            for hand, number in enumerate(self.claims[event]):
+                self.reach(hand, number)
 
 
 def aheads(program, stand, run, record):
@@ -31,11 +37,13 @@ def aheads_among(program, stand, touches, edges):
     """Aheads of touches, (EVENT, LOOK) in the order of a run that fits these edges."""
     firsts = firsts_by_second(edges)
     claims = {}
+    made = list(stand[COUNTS])
     # What is ahead of an event stands ahead of it in the run, so its claim is there by then.
     for touch in touches:
-        growth = Growth(stand[COUNTS], claims)
+        growth = Growth(stand[COUNTS], made, claims)
         grow(program, stand, touches, firsts.get(touch[0], []), touch, growth)
         claims[touch[0]] = tuple(growth.numbers)
+        made[touch[0][0]] += 1
     return tuple([claims_of(touches, claims, hand) for hand in hands_of(program)])
 
 
@@ -88,7 +96,7 @@ def frees_brought(program, stand, touches, touch, growth):
     holder = state_of(program, stand, "lock", lock)[0]
     if holder is not None and holder != hand:
         frees.append(free_from(touches, holder, lock, stand[COUNTS][holder]))
-    return frees
+    return [free for free in frees if free is not None]
 
 
 def is_ahead(stand, told, one, other):

@@ -1,7 +1,7 @@
 """The faults of a paper's marks, each thing alone, and of its edges, by the order."""
 
 from leastrecord.orders import places_in, touches_in
-from leastrecord.plain import is_tuple_of, is_whole
+from leastrecord.plain import is_same
 from leastrecord.programs import names_of
 from leastrecord.stands import PLACE_OF
 from leastrecord.steps import GIFTED
@@ -34,7 +34,7 @@ def box_faults(state, touches):
     mark = state[1]
     faults = []
     for event, look in touches:
-        if not is_mark(look[3], mark) or (look[0] == "get" and look[2] != value):
+        if not is_same(look[3], mark) or (look[0] == "get" and look[2] != value):
             faults.append(event)
         if look[0] == "put":
             value = look[2]
@@ -48,7 +48,7 @@ def lock_faults(state, touches):
     faults = []
     for event, look in touches:
         if look[0] == "take":
-            is_right = is_mark(look[3], mark) and not is_held
+            is_right = is_same(look[3], mark) and not is_held
         else:
             is_right = look[3] is None
             mark = event
@@ -66,12 +66,12 @@ def lane_faults(state, touches):
     faults = []
     for event, look in touches:
         if look[0] == "send":
-            is_right = is_mark(look[3], sent)
+            is_right = is_same(look[3], sent)
             sent += 1
             letters.append(look[2])
         else:
             place = fetched - state[1]
-            is_right = is_mark(look[3], fetched) and place < len(letters) and letters[place] == look[2]
+            is_right = is_same(look[3], fetched) and place < len(letters) and letters[place] == look[2]
             fetched += 1
         if not is_right:
             faults.append(event)
@@ -79,20 +79,7 @@ def lane_faults(state, touches):
 
 
 def door_faults(state, touches):
-    return [touch[0] for said, touch in enumerate(touches, start=state) if not is_mark(touch[1][3], said)]
-
-
-def is_mark(told, mark):
-    """Whether what is told is this mark, of its kind, too: True is no 1, a list no tuple."""
-    if mark is None:
-        return told is None
-    if isinstance(mark, tuple):
-        return is_tuple_of(told, len(mark)) and all([is_number(one, other) for one, other in zip(told, mark)])
-    return is_number(told, mark)
-
-
-def is_number(told, number):
-    return is_whole(told) and told == number
+    return [touch[0] for said, touch in enumerate(touches, start=state) if not is_same(touch[1][3], said)]
 
 
 def edge_fault(stand, record, paper):

@@ -16,3 +16,10 @@ def is_value(thing):
 
 def is_tuple_of(thing, many):
     return isinstance(thing, tuple) and len(thing) == many
+
+
+def is_same(thing, right):
+    """Whether a thing is the right one, of its kind, too: True is no 1, a list no tuple."""
+    if isinstance(right, tuple):
+        return is_tuple_of(thing, len(right)) and all([is_same(one, other) for one, other in zip(thing, right)])
+    return thing == right and isinstance(thing, bool) == isinstance(right, bool)

@@ -4,7 +4,7 @@ from leastrecord.errors import NoFit
 from leastrecord.needs import needs_among
 from leastrecord.plain import is_between, is_tuple_of, is_value, is_whole
 from leastrecord.runs import looks_of, walked, with_events
-from leastrecord.stands import COUNTS, hands_of
+from leastrecord.stands import COUNTS
 from leastrecord.steps import GIFTED, replaced
 
 
@@ -50,8 +50,14 @@ def is_event(counts, upto, thing):
 
 def whole_record(program, stand, run):
     told = walked(program, stand, run)
-    gifts = [gifts_in(looks_of(told[1], hand)) for hand in hands_of(program)]
-    return (told[0][COUNTS], tuple(gifts), needs_among(with_events(stand, told[1])))
+    return recorded(told, needs_among(with_events(stand, told[1])))
+
+
+def recorded(told, edges):
+    """The record of a run that was walked, with its counts at the end, all its gifts, and these edges."""
+    counts = told[0][COUNTS]
+    gifts = [gifts_in(looks_of(told[1], hand)) for hand in range(len(counts))]
+    return (counts, tuple(gifts), tuple(edges))
 
 
 def gifts_in(looks):

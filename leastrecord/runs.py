@@ -78,6 +78,11 @@ def events_by(stand, hands):
     return events
 
 
+def counts_behind(stand, hands):
+    """How many touches each hand has made behind these, one behind the other, from a stand on."""
+    return tuple([count + hands.count(hand) for hand, count in enumerate(stand[COUNTS])])
+
+
 def entry_of(stand, table, event):
     """What a tuple with a tuple for each hand, of an entry for each touch from the stand on, has of an EVENT."""
     return table[event[0]][event[1] - stand[COUNTS][event[0]]]

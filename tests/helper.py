@@ -340,3 +340,64 @@ def with_look(stand, paper, event, look):
     hand, place = event[0], event[1] - stand[0][event[0]]
     looks = tables[hand][:place] + (look,) + tables[hand][place + 1:]
     return (order, tables[:hand] + (looks,) + tables[hand + 1:], claims)
+
+
+def with_claim(stand, paper, event, claim):
+    """A paper whose aheads have another claim at this event."""
+    order, tables, claims = paper
+    return (order, tables, with_look(stand, (order, claims, ()), event, claim)[1])
+
+
+def events_in(stand, order):
+    """The events of an order, one behind the other."""
+    return [(hand, stand[0][hand] + order[:place].count(hand)) for place, hand in enumerate(order)]
+
+
+def other_order(chance, program, stand, record, paper):
+    """Another order of a paper's touches in which each still finds what it tells: by turning about neighbours."""
+    order = list(paper[0])
+    looks = {(hand, stand[0][hand] + k): look for hand, part in enumerate(paper[1]) for k, look in enumerate(part)}
+    for turn in range(chance.choice([1, 5, 40]) if len(order) > 1 else 0):
+        place = chance.randrange(len(order) - 1)
+        turned = order[:place] + [order[place + 1], order[place]] + order[place + 2:]
+        here, is_right = stand, True
+        for event in events_in(stand, turned):
+            gift = looks[event][2] if looks[event][0] in ("clock", "lot", "hear") else None
+            if event[0] not in can_go(program, here) or not is_right:
+                is_right = False
+                break
+            here, look = gone(program, here, event[0], gift)
+            is_right = look == looks[event]
+        places = {event: at for at, event in enumerate(events_in(stand, turned))}
+        if is_right and all(places[first] < places[second] for first, second in record[2]):
+            order = turned
+    return (tuple(order),) + paper[1:]
+
+
+def bent_claims(chance, paper, most=2):
+    """A paper with some other claims: numbers raised, lowered, 0, or any."""
+    def other(number):
+        return max(0, chance.choice([number + 1, number - 1, 0, number + 2, chance.randrange(6), 10 ** 39]))
+
+    claims = [[list(claim) for claim in part] for part in paper[2]]
+    spots = [(hand, k, one) for hand, part in enumerate(claims) for k, claim in enumerate(part) for one in range(len(claim))]
+    for hand, k, one in chance.sample(spots, min(len(spots), chance.randrange(1, most + 1))):
+        claims[hand][k][one] = other(claims[hand][k][one])
+    return paper[:2] + (tuple(tuple(tuple(claim) for claim in part) for part in claims),)
+
+
+def lessened_claims(chance, paper):
+    """A paper with lesser claims: each number is kept or lowered."""
+    share = chance.choice([0.1, 0.4, 0.9])
+    return paper[:2] + (tuple(tuple(tuple(chance.randrange(number + 1) if chance.random() < share else number for number in claim)
+                                    for claim in part) for part in paper[2]),)
+
+
+def run_by(paper):
+    """The run that a paper's order tells, with the values of clock, lot, hear as gifts."""
+    looks = [list(part) for part in paper[1]]
+    steps = []
+    for hand in paper[0]:
+        look = looks[hand].pop(0)
+        steps.append((hand, look[2] if look[0] in ("clock", "lot", "hear") else None))
+    return tuple(steps)
