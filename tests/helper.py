@@ -401,3 +401,34 @@ def run_by(paper):
         look = looks[hand].pop(0)
         steps.append((hand, look[2] if look[0] in ("clock", "lot", "hear") else None))
     return tuple(steps)
+
+
+def bent_lines(chance, lines, more, words):
+    """Lines with up to two changes: one of these or of more put in, one left out, words of one put in or left out."""
+    lines = list(lines)
+    for change in range(chance.randrange(3)):
+        row = chance.randrange(len(lines) + 1)
+        how = chance.randrange(4)
+        if how == 0:
+            lines.insert(row, chance.choice(lines + more))
+        elif how == 1:
+            lines = lines[:row] + lines[row + 1:]
+        elif row < len(lines):
+            parts = lines[row].split(" ")
+            place = chance.randrange(len(parts) + 1)
+            parts[place:place + chance.randrange(2)] = chance.sample(words, chance.randrange(2))
+            lines[row] = " ".join(parts)
+    return lines
+
+
+def bent_at_any_place(chance, thing, others):
+    """A copy of a tuple of whatever plain things in which some part is another one: near to it, None, or one of others."""
+    if type(thing) is tuple and thing and chance.random() < 0.9:
+        place = chance.randrange(len(thing))
+        return thing[:place] + (bent_at_any_place(chance, thing[place], others),) + thing[place + 1:]
+    near = [None]
+    if type(thing) is int:
+        near += [thing + 1, thing - 1, bool(thing)]
+    elif type(thing) is tuple:
+        near += [list(thing), thing + (0,)]
+    return chance.choice(near if chance.random() < 0.7 else others)

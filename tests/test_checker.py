@@ -1,7 +1,7 @@
 import random
 import unittest
 
-from helper import (CLOCK, FETCH, FREE, GET, LOOP, PUT, SAY, SEND, TAKE, bent_claims, busy_scene, kinds, lessened_claims, odd_things,
+from helper import (CLOCK, FETCH, FREE, GET, LOOP, PUT, SAY, SEND, TAKE, bent_at_any_place, bent_claims, busy_scene, kinds, lessened_claims, odd_things,
                     other_order, program_of, random_record, refused, run_by, run_of, search, stand_behind, stays, with_claim, with_look)
 from leastrecord.checker import lets
 from leastrecord.errors import NoPaper
@@ -37,14 +37,6 @@ def first_fault(program, stand, record, paper):
         if fault is not None:
             return (word,) + fault
     return None
-
-
-def bent_at_any_place(chance, thing, other):
-    """A copy of a plain thing in which some part of it is another one."""
-    if type(thing) is not tuple or not thing or chance.random() < 0.1:
-        return other(thing)
-    place = chance.randrange(len(thing))
-    return thing[:place] + (bent_at_any_place(chance, thing[place], other),) + thing[place + 1:]
 
 
 class Checker(unittest.TestCase):
@@ -266,14 +258,9 @@ class Refused(Checker):
             program, stand, run = busy_scene(chance, most_rows=8, most_steps=8, most_hands=3)
             record = least_record(program, stand, run)
             good = paper_of(program, stand, run, record)
-
-            def other(thing):
-                near = [thing + 1, thing - 1, bool(thing)] if type(thing) is int else [list(thing)] if type(thing) is tuple else []
-                return chance.choice(near + [None]) if chance.random() < 0.7 else chance.choice(odd_things())
-
-            paper = bent_at_any_place(chance, good, other)
+            paper = bent_at_any_place(chance, good, odd_things())
             if chance.random() < 0.3:
-                paper = bent_at_any_place(chance, paper, other)
+                paper = bent_at_any_place(chance, paper, odd_things())
             told = first_fault(program, stand, record, paper)
             words.append(told and told[0])
             if told is None:
