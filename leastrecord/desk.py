@@ -14,7 +14,7 @@ from leastrecord.stands import PLACE_OF, can_go, first_stand, state_of
 from leastrecord.steps import gone
 from leastrecord.words import is_name
 
-# The rows of one word, those that speak of a lead by themselves, and those with lines behind the first blank.
+# Rows of one word about the run, rows of one word about the lead, and rows with lines behind the first blank.
 RUN_WORDS = ("back", "can", "run", "record")
 LEAD_WORDS = ("undo", "redo", "leads", "led", "waits")
 WITH_LINES = ("judge", "lead")
