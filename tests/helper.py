@@ -432,3 +432,99 @@ def bent_at_any_place(chance, thing, others):
     elif type(thing) is tuple:
         near += [list(thing), thing + (0,)]
     return chance.choice(near if chance.random() < 0.7 else others)
+
+
+def touches_by_order(stand, paper):
+    """The touches of a paper as (EVENT, LOOK), by its order."""
+    return [(event, paper[1][event[0]][event[1] - stand[0][event[0]]]) for event in events_in(stand, paper[0])]
+
+
+def claim_of(stand, paper, event):
+    """What a paper claims of an event."""
+    return paper[2][event[0]][event[1] - stand[0][event[0]]]
+
+
+def marks_by_the_words(program, stand, thing):
+    """The events that are faults of marks, each looked at by itself."""
+    touches = touches_by_order(stand, thing)
+    boxes = dict(zip([name for name, value in program[0]], stand[2]))
+    locks, lanes, doors = (dict(zip(program[place], stand[place + 2])) for place in (1, 2, 3))
+
+    def is_right(place):
+        event, (kind, name, value, mark) = touches[place]
+        ahead = touches[:place]
+
+        def those(*asked):
+            return [(e, look) for e, look in ahead if look[0] in asked and look[1] == name]
+
+        if kind in ("get", "put"):
+            found = boxes[name]
+            for e, look in those("put"):
+                found = (look[2], e)
+            return kinds(mark) == kinds(found[1]) and (kind == "put" or value == found[0])
+        if kind == "take":
+            found = locks[name][1]
+            for e, look in those("free"):
+                found = e
+            last = those("take", "free")
+            free = last[-1][1][0] == "free" if last else locks[name][0] is None
+            return free and kinds(mark) == kinds(found)
+        if kind in ("send", "fetch"):
+            sent, fetched, letters = lanes[name]
+            number = len(those(kind)) + (sent if kind == "send" else fetched)
+            if kind == "send" or kinds(mark) != kinds(number):
+                return kinds(mark) == kinds(number)
+            if number < sent:
+                return letters[number - fetched] == value
+            sends = those("send")
+            return number - sent < len(sends) and sends[number - sent][1][2] == value
+        if kind == "say":
+            return kinds(mark) == kinds(doors[name] + len(those("say")))
+        return mark is None
+
+    return [touches[place][0] for place in range(len(touches)) if not is_right(place)]
+
+
+def given_by_the_words(program, stand, record, paper, event):
+    """What is given to a touch, the rules being gone over till none asks for more."""
+    touches = touches_by_order(stand, paper)
+    looks = dict(touches)
+    events = [e for e, look in touches]
+    ahead = events[:events.index(event)]
+    hands = range(len(stand[0]))
+    most = [stand[0][hand] + len([e for e in ahead if e[0] == hand]) for hand in hands]
+    numbers = list(stand[0])
+    kind, thing = looks[event][:2]
+
+    def is_in(e):
+        return e[1] < numbers[e[0]]
+
+    def asked_for():
+        """Pairs (hand, number): the hand's number is no less than that."""
+        asked = [(event[0], event[1])]
+        owed = [first for first, second in record[2] if second == event]
+        if kind == "fetch":
+            fetched = stand[4][program[2].index(thing)][1]
+            fetched += len([e for e in events if is_in(e) and looks[e][:2] == ("fetch", thing)])
+            owed += [e for e in events if looks[e][:2] == ("send", thing) and looks[e][3] <= fetched]
+        if kind == "take":
+            begins = [e for e in events if is_in(e) and e[0] != event[0] and looks[e][:2] == ("take", thing)]
+            holder = stand[3][program[1].index(thing)][0]
+            if holder is not None and holder != event[0]:
+                begins.append((holder, stand[0][holder]))
+            for begin in begins:
+                owed += [e for e in events if e[0] == begin[0] and e[1] >= begin[1] and looks[e][:2] == ("free", thing)][:1]
+        asked += [(e[0], e[1] + 1) for e in owed]
+        for e in events:
+            if is_in(e):
+                asked += list(enumerate(paper[2][e[0]][e[1] - stand[0][e[0]]]))
+        return asked
+
+    grown = True
+    while grown:
+        grown = False
+        for hand, number in asked_for():
+            if numbers[hand] < min(number, most[hand]):
+                numbers[hand] = min(number, most[hand])
+                grown = True
+    return tuple(numbers)

@@ -1,20 +1,19 @@
 import random
 import unittest
 
-from helper import (CLOCK, FETCH, FREE, GET, LOOP, PUT, SAY, SEND, TAKE, bent_at_any_place, bent_claims, busy_scene, kinds, lessened_claims, odd_things,
-                    other_order, program_of, random_record, refused, run_by, run_of, search, stand_behind, stays, with_claim, with_look)
+from helper import (CLOCK, FETCH, FREE, GET, LOOP, PUT, SAY, SEND, TAKE, bent_at_any_place, bent_claims, busy_scene, claim_of, events_in,
+                    given_by_the_words, kinds, lessened_claims, marks_by_the_words, needs_by_the_words, odd_things, other_order, program_of,
+                    random_record, refused, run_by, run_of, search, stand_behind, stays, touches_by_order, with_claim, with_look)
 from leastrecord.checker import lets
 from leastrecord.errors import NoPaper
 from leastrecord.fitting import keeps
-from leastrecord.givens import ahead_fault, need_fault
 from leastrecord.least import least_record
-from leastrecord.markfaults import edge_fault, mark_fault
 from leastrecord.opens import is_enough
-from leastrecord.papers import is_paper, paper_of
+from leastrecord.papers import paper_of
 from leastrecord.partings import parting
 from leastrecord.records import whole_record
-from leastrecord.rowfaults import gift_fault, row_fault
 from leastrecord.runs import parted, tables_of, walked
+from leastrecord.seats import seat_behind, touch_of
 from leastrecord.stands import first_stand
 
 # One hand puts, sends and asks for a gift; the other one fetches, gets and says.
@@ -25,17 +24,78 @@ RECORD = ((6, 6), ((7,), (8,)), (((0, 3), (1, 2)), ((0, 5), (1, 4))))
 GOOD = paper_of(PROGRAM, FIRST, RUN, RECORD)
 
 
+def has_shape(stand, record, paper):
+    """Whether a thing has the right shape of a paper."""
+    def whole(thing):
+        return type(thing) is int
+
+    owed = [most - count for most, count in zip(record[0], stand[0])]
+    if type(paper) is not tuple or len(paper) != 3 or any(type(part) is not tuple for part in paper):
+        return False
+    order, tables, claims = paper
+    if not all(whole(hand) and 0 <= hand < len(owed) for hand in order) or [order.count(hand) for hand in range(len(owed))] != owed:
+        return False
+    for part in (tables, claims):
+        if any(type(one) is not tuple for one in part) or [len(one) for one in part] != owed:
+            return False
+    return all(type(claim) is tuple and len(claim) == len(owed) and all(whole(number) and number >= 0 for number in claim)
+               for part in claims for claim in part)
+
+
+def rows_by_the_words(program, stand, paper):
+    """Of each hand the first event whose thing is no look that its rows give."""
+    faults = []
+    for hand, looks in enumerate(paper[1]):
+        seat = stand[1][hand]
+        for number, look in enumerate(looks, start=stand[0][hand]):
+            touch = touch_of(program, hand, seat)
+            is_right = touch is not None and type(look) is tuple and len(look) == 4 and kinds(look[:2]) == kinds(touch[:2])
+            if is_right and touch[0] in ("get", "fetch", "clock", "hear", "lot"):
+                is_right = type(look[2]) is int and 0 <= look[2] < (touch[2] if touch[0] == "lot" else 1000)
+            elif is_right:
+                is_right = kinds(look[2]) == kinds(touch[2])
+            if not is_right:
+                faults.append((hand, number))
+                break
+            seat = seat_behind(program, hand, seat, look[2])
+    return faults
+
+
+def gifts_by_the_words(stand, record, paper):
+    faults = []
+    for hand, looks in enumerate(paper[1]):
+        asked = [(number, look[2]) for number, look in enumerate(looks, start=stand[0][hand]) if look[0] in ("clock", "lot", "hear")]
+        gifts = record[1][hand]
+        wrong = [number for place, (number, value) in enumerate(asked) if gifts[place:place + 1] != (value,)]
+        if wrong:
+            faults.append((hand, wrong[0]))
+        elif len(gifts) > len(asked):
+            faults.append((hand, record[0][hand]))
+    return faults
+
+
 def first_fault(program, stand, record, paper):
-    """The first word that has a fault, with it, each word asked by itself."""
-    if not is_paper(program, stand, record, paper):
+    """The first word that has a fault, with it, as the words tell it."""
+    if not has_shape(stand, record, paper):
         return ("shape", -1, -1)
-    asks = (("row", lambda: row_fault(program, stand, paper)), ("gift", lambda: gift_fault(stand, record, paper)),
-            ("mark", lambda: mark_fault(program, stand, paper)), ("edge", lambda: edge_fault(stand, record, paper)),
-            ("ahead", lambda: ahead_fault(program, stand, record, paper)), ("need", lambda: need_fault(program, stand, paper)))
+
+    def edges():
+        events = events_in(stand, paper[0])
+        return [second for first, second in record[2] if events.index(first) > events.index(second)]
+
+    def claimed():
+        return [event for event in events_in(stand, paper[0])
+                if any(number > most for number, most in zip(claim_of(stand, paper, event), given_by_the_words(program, stand, record, paper, event)))]
+
+    def needed():
+        return [b for a, b in needs_by_the_words(touches_by_order(stand, paper)) if claim_of(stand, paper, b)[a[0]] <= a[1]]
+
+    asks = (("row", lambda: rows_by_the_words(program, stand, paper)), ("gift", lambda: gifts_by_the_words(stand, record, paper)),
+            ("mark", lambda: marks_by_the_words(program, stand, paper)), ("edge", edges), ("ahead", claimed), ("need", needed))
     for word, ask in asks:
-        fault = ask()
-        if fault is not None:
-            return (word,) + fault
+        faults = ask()
+        if faults:
+            return (word,) + min(faults)
     return None
 
 
@@ -270,6 +330,43 @@ class Refused(Checker):
                 self.fault(paper, told, record, program, stand)
         for word in (None, "shape", "row", "mark", "ahead"):
             self.assertGreater(words.count(word), 5, (word, words.count(word)))
+
+    def test_papers_bent_in_several_ways(self):
+        chance = random.Random(68)
+        words = []
+        for turn in range(1200):
+            program, stand, run = busy_scene(chance, most_steps=12)
+            record = whole_record(program, stand, run)
+            if chance.random() < 0.4:
+                record = record[:2] + (tuple(edge for edge in record[2] if chance.random() < 0.7),)
+            paper = paper_of(program, stand, run, record)
+            ways = ["neighbours", "order", "claims", "gift", "edge", "look"]
+            for how in sorted(chance.sample(ways, chance.randrange(1, 4)), key=ways.index):
+                paper, record = self.bent_by(chance, how, program, stand, record, paper)
+            told = first_fault(program, stand, record, paper)
+            words.append(told and told[0])
+            if told is None:
+                self.let(program, stand, record, paper)
+            else:
+                self.fault(paper, told, record, program, stand)
+        for word in (None, "shape", "row", "gift", "mark", "edge", "ahead", "need"):
+            self.assertGreater(words.count(word), 8, (word, words.count(word)))
+
+    def bent_by(self, chance, how, program, stand, record, paper):
+        """A paper and a record, one of both bent."""
+        events = events_in(stand, paper[0])
+        if how == "claims":
+            return bent_claims(chance, paper), record
+        if how == "order":
+            return (tuple(chance.sample(paper[0], len(paper[0]))),) + paper[1:], record
+        if how == "neighbours":
+            return other_order(chance, program, stand, record, paper), record
+        if how == "look":
+            return (paper[0], bent_at_any_place(chance, paper[1], odd_things()), paper[2]), record
+        if how == "gift":
+            return paper, (record[0], tuple(gifts[chance.randrange(2):] + ((5,) * chance.randrange(2)) for gifts in record[1]), record[2])
+        pairs = [(a, b) for a in events for b in events if a[0] != b[0]]
+        return paper, record[:2] + (tuple(sorted(set(record[2]) | set(chance.sample(pairs, min(1, len(pairs)))))),)
 
     def test_a_record_by_which_some_run_parts_has_no_paper(self):
         chance = random.Random(67)

@@ -1,66 +1,14 @@
 import random
 import unittest
 
-from helper import (CLOCK, FETCH, FREE, GET, LOOP, PUT, SAY, SEND, TAKE, bent_claims, busy_scene, events_in, lessened_claims,
-                    needs_by_the_words, other_order, program_of, random_record, run_by, run_of, same_kind, stand_behind, stays, with_claim)
+from helper import (CLOCK, FETCH, FREE, GET, LOOP, PUT, SAY, SEND, TAKE, bent_claims, busy_scene, claim_of, events_in,
+                    given_by_the_words, lessened_claims, needs_by_the_words, other_order, program_of, random_record, run_by, run_of,
+                    same_kind, stand_behind, stays, touches_by_order, with_claim)
 from leastrecord.aheads import aheads
 from leastrecord.givens import ahead_fault, given_to, need_fault
 from leastrecord.papers import paper_of
 from leastrecord.records import whole_record
 from leastrecord.stands import first_stand
-
-
-def touches_by_order(stand, paper):
-    return [(event, paper[1][event[0]][event[1] - stand[0][event[0]]]) for event in events_in(stand, paper[0])]
-
-
-def given_by_the_words(program, stand, record, paper, event):
-    """What is given to a touch, the rules being gone over till none asks for more."""
-    touches = touches_by_order(stand, paper)
-    looks = dict(touches)
-    events = [e for e, look in touches]
-    ahead = events[:events.index(event)]
-    hands = range(len(stand[0]))
-    most = [stand[0][hand] + len([e for e in ahead if e[0] == hand]) for hand in hands]
-    numbers = list(stand[0])
-    kind, thing = looks[event][:2]
-
-    def is_in(e):
-        return e[1] < numbers[e[0]]
-
-    def asked_for():
-        """Pairs (hand, number): the hand's number is no less than that."""
-        asked = [(event[0], event[1])]
-        owed = [first for first, second in record[2] if second == event]
-        if kind == "fetch":
-            fetched = stand[4][program[2].index(thing)][1]
-            fetched += len([e for e in events if is_in(e) and looks[e][:2] == ("fetch", thing)])
-            owed += [e for e in events if looks[e][:2] == ("send", thing) and looks[e][3] <= fetched]
-        if kind == "take":
-            begins = [e for e in events if is_in(e) and e[0] != event[0] and looks[e][:2] == ("take", thing)]
-            holder = stand[3][program[1].index(thing)][0]
-            if holder is not None and holder != event[0]:
-                begins.append((holder, stand[0][holder]))
-            for begin in begins:
-                owed += [e for e in events if e[0] == begin[0] and e[1] >= begin[1] and looks[e][:2] == ("free", thing)][:1]
-        asked += [(e[0], e[1] + 1) for e in owed]
-        for e in events:
-            if is_in(e):
-                asked += list(enumerate(paper[2][e[0]][e[1] - stand[0][e[0]]]))
-        return asked
-
-    grown = True
-    while grown:
-        grown = False
-        for hand, number in asked_for():
-            if numbers[hand] < min(number, most[hand]):
-                numbers[hand] = min(number, most[hand])
-                grown = True
-    return tuple(numbers)
-
-
-def claim_of(stand, paper, event):
-    return paper[2][event[0]][event[1] - stand[0][event[0]]]
 
 
 class Papers(unittest.TestCase):

@@ -1,7 +1,7 @@
 import random
 import unittest
 
-from helper import (CLOCK, FETCH, FREE, GET, LOOP, N0, PUT, SAY, SEND, TAKE, Y, busy_scene, kinds, odd_things, program_of,
+from helper import (CLOCK, FETCH, FREE, GET, LOOP, N0, PUT, SAY, SEND, TAKE, Y, busy_scene, kinds, marks_by_the_words, odd_things, program_of,
                     random_record, run_of, same_kind, stand_behind, stays, with_look)
 from leastrecord.markfaults import edge_fault, mark_fault
 from leastrecord.papers import is_paper, paper_of
@@ -12,52 +12,6 @@ from leastrecord.stands import first_stand
 
 def paper(program, stand, run):
     return paper_of(program, stand, run, whole_record(program, stand, run))
-
-
-def marks_by_the_words(program, stand, thing):
-    """The events that are faults of marks, each looked at by itself."""
-    order, tables, claims = thing
-    counts = list(stand[0])
-    touches = []
-    for hand in order:
-        touches.append(((hand, counts[hand]), tables[hand][counts[hand] - stand[0][hand]]))
-        counts[hand] += 1
-    boxes = dict(zip([name for name, value in program[0]], stand[2]))
-    locks, lanes, doors = (dict(zip(program[place], stand[place + 2])) for place in (1, 2, 3))
-
-    def is_right(place):
-        event, (kind, name, value, mark) = touches[place]
-        ahead = touches[:place]
-
-        def those(*asked):
-            return [(e, look) for e, look in ahead if look[0] in asked and look[1] == name]
-
-        if kind in ("get", "put"):
-            found = boxes[name]
-            for e, look in those("put"):
-                found = (look[2], e)
-            return kinds(mark) == kinds(found[1]) and (kind == "put" or value == found[0])
-        if kind == "take":
-            found = locks[name][1]
-            for e, look in those("free"):
-                found = e
-            last = those("take", "free")
-            free = last[-1][1][0] == "free" if last else locks[name][0] is None
-            return free and kinds(mark) == kinds(found)
-        if kind in ("send", "fetch"):
-            sent, fetched, letters = lanes[name]
-            number = len(those(kind)) + (sent if kind == "send" else fetched)
-            if kind == "send" or kinds(mark) != kinds(number):
-                return kinds(mark) == kinds(number)
-            if number < sent:
-                return letters[number - fetched] == value
-            sends = those("send")
-            return number - sent < len(sends) and sends[number - sent][1][2] == value
-        if kind == "say":
-            return kinds(mark) == kinds(doors[name] + len(those("say")))
-        return mark is None
-
-    return [touches[place][0] for place in range(len(touches)) if not is_right(place)]
 
 
 class MarkFault(unittest.TestCase):
